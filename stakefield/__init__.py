@@ -1,0 +1,1 @@
+"""Stakefield: fields spanned by stakes at whole points."""

@@ -1,0 +1,160 @@
+"""The package keeps to the part of Python that it is written in, as far as a look at its files can tell."""
+
+import ast
+import builtins
+import pathlib
+import re
+import unittest
+
+PACKAGE = pathlib.Path(__file__).resolve().parent.parent / "stakefield"
+
+STATEMENTS = (
+    ast.Module, ast.FunctionDef, ast.ClassDef, ast.ImportFrom, ast.Assign, ast.AugAssign, ast.If, ast.While, ast.For,
+    ast.Return, ast.Break, ast.Continue, ast.Pass, ast.Raise, ast.Try, ast.ExceptHandler, ast.Expr,
+)
+EXPRESSIONS = (
+    ast.Constant, ast.Name, ast.List, ast.Tuple, ast.Dict, ast.Set, ast.BinOp, ast.UnaryOp, ast.BoolOp, ast.Compare,
+    ast.IfExp, ast.Call, ast.keyword, ast.Attribute, ast.Subscript, ast.Slice, ast.ListComp, ast.comprehension,
+    ast.JoinedStr, ast.FormattedValue, ast.Lambda, ast.arguments, ast.arg, ast.alias,
+)
+SIGNS = (ast.operator, ast.unaryop, ast.boolop, ast.cmpop, ast.expr_context)
+OWN_NAMES = set("""
+    len range enumerate zip min max sum abs sorted reversed int str bool list tuple dict set frozenset isinstance ord repr
+    any all divmod Exception ValueError TypeError KeyError IndexError LookupError ZeroDivisionError ArithmeticError
+    OverflowError RuntimeError NotImplementedError AttributeError StopIteration
+""".split())
+METHODS = set("""
+    append clear copy count endswith extend find get index insert isalnum isalpha isdigit islower isspace isupper items
+    join keys ljust lower lstrip partition pop remove replace reverse rfind rjust rpartition rsplit rstrip setdefault split
+    splitlines startswith strip update upper values zfill bit_length
+""".split())
+WORDS = set("""
+    type typing typing_extensions enum Enum IntEnum StrEnum Flag IntFlag Generic Protocol ABC ABCMeta namedtuple NamedTuple
+    TypedDict TYPE_CHECKING abstractmethod
+""".split())
+TWO_UNDERSCORES = {"__init__", "__eq__", "__repr__", "__str__", "__len__", "__all__", "__version__"}
+
+
+def files():
+    return sorted(PACKAGE.rglob("*.py"))
+
+
+def bound_names(tree):
+    """Each name that a tree binds, with the row it stands in."""
+    for node in ast.walk(tree):
+        if isinstance(node, (ast.FunctionDef, ast.ClassDef)):
+            yield node.name, node.lineno
+        elif isinstance(node, ast.arg):
+            yield node.arg, node.lineno
+        elif isinstance(node, ast.Name) and isinstance(node.ctx, ast.Store):
+            yield node.id, node.lineno
+
+
+class LanguageTest(unittest.TestCase):
+    def setUp(self):
+        self.texts = {path: path.read_bytes().decode("ascii") for path in files()}
+        self.trees = {path: ast.parse(text) for path, text in self.texts.items()}
+
+    def nodes(self):
+        for path, tree in self.trees.items():
+            for node in ast.walk(tree):
+                yield f"{path.name}:{getattr(node, 'lineno', 0)}", node
+
+    def test_files(self):
+        self.assertIn(PACKAGE / "__init__.py", files())
+        for path in PACKAGE.iterdir():
+            if path.name != "__pycache__":
+                self.assertRegex(path.name, r"^([a-z][a-z0-9_]*|__init__|__main__)\.py$")
+
+    def test_signs_and_sizes(self):
+        for path, text in self.texts.items():
+            rows = text.split("\n")
+            self.assertRegex(text, r"\A[ -~\n]*\Z", path.name)
+            self.assertLessEqual(len(rows), 400, path.name)
+            self.assertLessEqual(max(map(len, rows)), 120, path.name)
+        for place, node in self.nodes():
+            if isinstance(node, ast.FunctionDef):
+                self.assertLessEqual(node.end_lineno - node.lineno + 1, 40, place)
+
+    def test_words(self):
+        for path, text in self.texts.items():
+            self.assertEqual(set(re.findall(r"\w+", text)) & WORDS, set(), path.name)
+            self.assertIsNone(re.search("dataclass|overload|contextmanager", text), path.name)
+
+    def test_kinds_of_node(self):
+        for place, node in self.nodes():
+            self.assertIsInstance(node, STATEMENTS + EXPRESSIONS + SIGNS, place)
+            self.assertNotIsInstance(node, (ast.Div, ast.MatMult), place)
+            if isinstance(node, ast.Constant):
+                self.assertIn(type(node.value), (int, str, bool, type(None)), place)
+            if isinstance(node, (ast.For, ast.While)):
+                self.assertEqual(node.orelse, [], place)
+            if isinstance(node, ast.Try):
+                self.assertEqual(node.finalbody, [], place)
+            if isinstance(node, (ast.FunctionDef, ast.ClassDef)):
+                self.assertEqual(node.decorator_list, [], place)
+            if isinstance(node, ast.Compare) and any(isinstance(sign, (ast.Is, ast.IsNot)) for sign in node.ops):
+                self.assertIsInstance(node.comparators[0], ast.Constant, place)
+                self.assertIn(node.comparators[0].value, (None, True, False), place)
+
+    def test_assignments_have_one_target(self):
+        for place, node in self.nodes():
+            if isinstance(node, ast.Assign):
+                self.assertEqual(len(node.targets), 1, place)
+                self.assertIsInstance(node.targets[0], (ast.Name, ast.Attribute, ast.Subscript), place)
+
+    def test_parameters_are_plain(self):
+        for place, node in self.nodes():
+            if isinstance(node, ast.arguments):
+                self.assertEqual((node.vararg, node.kwarg, node.kwonlyargs, node.posonlyargs), (None, None, [], []), place)
+            if isinstance(node, ast.comprehension):
+                self.assertLessEqual(len(node.ifs), 1, place)
+            if isinstance(node, ast.ListComp):
+                self.assertEqual(len(node.generators), 1, place)
+
+    def test_imports(self):
+        for path, tree in self.trees.items():
+            for node in ast.walk(tree):
+                if isinstance(node, ast.ImportFrom):
+                    self.assertIn(node, tree.body, path.name)
+                    self.assertEqual(node.level, 0, path.name)
+                    self.assertRegex(node.module, r"^stakefield\.[a-z_]+$", path.name)
+                    source = self.trees[PACKAGE / (node.module.split(".")[1] + ".py")]
+                    defined = [own.name for own in source.body if isinstance(own, (ast.FunctionDef, ast.ClassDef))]
+                    for name in node.names:
+                        self.assertIn(name.name, defined, path.name)
+                        self.assertIsNone(name.asname, path.name)
+
+    def test_names(self):
+        for path, tree in self.trees.items():
+            for name, row in bound_names(tree):
+                place = f"{path.name}:{row} {name}"
+                self.assertTrue(re.match(r"[A-Za-z]\w*$", name) or name in TWO_UNDERSCORES, place)
+                self.assertFalse(hasattr(builtins, name), place)
+
+    def test_no_local_is_called_like_a_class_or_an_import(self):
+        for path, tree in self.trees.items():
+            taken = [node.name for node in tree.body if isinstance(node, ast.ClassDef)]
+            for node in tree.body:
+                if isinstance(node, ast.ImportFrom):
+                    taken += [name.name for name in node.names]
+            for own in ast.walk(tree):
+                if isinstance(own, (ast.arg, ast.Name)):
+                    name = own.arg if isinstance(own, ast.arg) else own.id
+                    stored = isinstance(own, ast.arg) or isinstance(own.ctx, ast.Store)
+                    self.assertFalse(stored and name in taken, f"{path.name}:{own.lineno} {name}")
+
+    def test_names_of_pythons_own(self):
+        for place, node in self.nodes():
+            if isinstance(node, ast.Name) and hasattr(builtins, node.id):
+                self.assertIn(node.id, OWN_NAMES, place)
+
+    def test_methods(self):
+        own = {node.name for place, node in self.nodes() if isinstance(node, ast.FunctionDef)}
+        for place, node in self.nodes():
+            if isinstance(node, ast.Call) and isinstance(node.func, ast.Attribute):
+                self.assertIn(node.func.attr, METHODS | own, place)
+
+
+if __name__ == "__main__":
+    unittest.main()
