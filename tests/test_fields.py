@@ -3,23 +3,12 @@
 import itertools
 import unittest
 
-from counting import within
-from stakefield.errors import NoField, NoMove, StakeError
+from helping import FAR, FIELDS, MOVES, SQUARE, StakeCase, within
+from stakefield.errors import NoField, NoMove
 from stakefield.fields import double_area, field, field_moved, is_field, rim, turn, where
 from stakefield.moves import moved, steps
 
-FAR = 10 ** 30
-SQUARE = [(0, 0), (4, 0), (4, 4), (0, 4)]
 NINE = [(x, y) for x in range(3) for y in range(3)]
-FIELDS = (
-    [(0, 0)], [(-3, 5)], [(0, 0), (1, 0)], [(2, -1), (2, 8)], [(-1, 0), (5, 9)], [(0, 4), (6, 0)],
-    [(0, 0), (1, 0), (0, 1)], [(0, 0), (3, 0), (0, 6)], [(-2, -1), (5, -3), (1, 4)], SQUARE,
-    [(-1, 0), (0, -1), (1, 0), (0, 1)], [(0, 0), (2, -1), (5, 0), (6, 3), (4, 6), (1, 5)],
-)
-MOVES = (
-    (1, 0, 0, 1, 0, 0), (1, 0, 0, 1, -7, 9), (0, 1, 1, 0, 0, 0), (-1, 0, 0, 1, 0, 0), (1, 0, 0, -1, 3, 0),
-    (0, -1, 1, 0, 2, 2), (-1, 0, 0, -1, 0, 0), (2, 3, 1, 1, 9, 8), (2, 1, 1, 1, 0, -4), (1, FAR, 0, 1, FAR, 1),
-)
 
 
 def area(P, Q, R):
@@ -51,12 +40,7 @@ def rings(corners):
     return [corners[k:] + corners[:k] for k in range(len(corners))]
 
 
-class FieldCase(unittest.TestCase):
-    def assert_refused(self, own, deed, *given):
-        with self.assertRaises(StakeError) as caught:
-            deed(*given)
-        self.assertIs(type(caught.exception), own)
-
+class FieldCase(StakeCase):
     def assert_field_of(self, points):
         """Checks field(points) by the words of point 10 alone."""
         told = field(points)

@@ -32,6 +32,8 @@ WORDS = set("""
     type typing typing_extensions enum Enum IntEnum StrEnum Flag IntFlag Generic Protocol ABC ABCMeta namedtuple NamedTuple
     TypedDict TYPE_CHECKING abstractmethod
 """.split())
+WALKED = {"zip", "enumerate", "reversed", "range", "items", "keys", "values"}
+WALKERS = {"list", "tuple", "dict", "sorted", "sum", "any", "all", "enumerate", "zip", "min", "max", "join"}
 TWO_UNDERSCORES = {"__init__", "__eq__", "__repr__", "__str__", "__len__", "__all__", "__version__"}
 
 
@@ -48,6 +50,17 @@ def bound_names(tree):
             yield node.arg, node.lineno
         elif isinstance(node, ast.Name) and isinstance(node.ctx, ast.Store):
             yield node.id, node.lineno
+
+
+def called(node):
+    """The name by which a call calls, or None."""
+    if not isinstance(node, ast.Call):
+        return None
+    return node.func.id if isinstance(node.func, ast.Name) else getattr(node.func, "attr", None)
+
+
+def drawn_from(tree):
+    return [node.module.split(".")[1] for node in ast.walk(tree) if isinstance(node, ast.ImportFrom)]
 
 
 class LanguageTest(unittest.TestCase):
@@ -124,6 +137,53 @@ class LanguageTest(unittest.TestCase):
                     for name in node.names:
                         self.assertIn(name.name, defined, path.name)
                         self.assertIsNone(name.asname, path.name)
+
+    def test_no_two_files_draw_from_one_another(self):
+        drawn = {path.stem: drawn_from(tree) for path, tree in self.trees.items()}
+        left = set(drawn)
+        while left:
+            free = {name for name in left if not left & set(drawn[name])}
+            self.assertNotEqual(free, set(), f"a ring among {sorted(left)}")
+            left -= free
+
+    def test_walked_on_the_spot(self):
+        for path, tree in self.trees.items():
+            fine = []
+            for node in ast.walk(tree):
+                if isinstance(node, (ast.For, ast.comprehension)):
+                    fine.append(node.iter)
+                elif called(node) in WALKERS:
+                    fine += node.args if called(node) == "zip" else node.args[:1]
+            for node in ast.walk(tree):
+                if called(node) in WALKED:
+                    self.assertIn(node, fine, f"{path.name}:{node.lineno}")
+
+    def test_sets_are_asked_on_the_spot(self):
+        for path, tree in self.trees.items():
+            fine = []
+            for node in ast.walk(tree):
+                if called(node) in ("sorted", "len") and not node.keywords:
+                    fine += node.args
+                elif isinstance(node, ast.Compare):
+                    fine += [node.left] + node.comparators
+            for node in ast.walk(tree):
+                if isinstance(node, ast.Set) or called(node) in ("set", "frozenset"):
+                    self.assertIn(node, fine, f"{path.name}:{node.lineno}")
+
+    def test_the_top_of_a_file_binds_each_name_once(self):
+        for path, tree in self.trees.items():
+            names = []
+            for node in tree.body:
+                if isinstance(node, (ast.FunctionDef, ast.ClassDef)):
+                    names.append(node.name)
+                elif isinstance(node, ast.ImportFrom):
+                    names += [name.name for name in node.names]
+                elif isinstance(node, ast.Assign):
+                    names.append(node.targets[0].id)
+                    self.assertIsInstance(node.value, (ast.Constant, ast.List, ast.Tuple, ast.Dict), path.name)
+                else:
+                    self.assertIsInstance(node, ast.Expr, path.name)
+            self.assertEqual(sorted(names), sorted(set(names)), path.name)
 
     def test_names(self):
         for path, tree in self.trees.items():

@@ -4,7 +4,7 @@ import itertools
 import math
 import unittest
 
-from counting import within
+from helping import within
 from stakefield.errors import NoMove, StakeError
 from stakefield.fields import turn
 from stakefield.moves import behind, is_move, level, moved, steps, way_back

@@ -4,7 +4,7 @@ import math
 import unittest
 from fractions import Fraction
 
-from counting import within
+from helping import golden, within
 from stakefield.errors import NoNumber, StakeError
 from stakefield.wholes import is_whole, row_sum, shares
 
@@ -78,10 +78,7 @@ class SharesTest(unittest.TestCase):
                     self.check(b, a)
 
     def test_steps_go_with_the_figures(self):
-        # Neighbours in this row take the most steps of all numbers of their length.
-        low, high = 1, 1
-        while high < 10 ** 199:
-            low, high = high, low + high
+        low, high = golden()
         self.assertEqual(within(12000, shares, low, high)[0], 1)
         self.assertEqual(within(12000, shares, 10 ** 199, 3), (1, 1, (1 - 10 ** 199) // 3))
         self.assertEqual(within(12000, shares, 3, 10 ** 199)[0], 1)
@@ -137,9 +134,7 @@ class RowSumTest(unittest.TestCase):
                     self.assertEqual(told, (unrounded - rests) // part)
 
     def test_steps_go_with_the_figures(self):
-        low, high = 1, 1
-        while high < 10 ** 199:
-            low, high = high, low + high
+        low, high = golden()
         many = 10 ** 199
         first = within(15000, row_sum, many, low, 0, high)
         # What a row and the row below it come to together is known where no rest is 0.

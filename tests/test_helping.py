@@ -2,7 +2,7 @@
 
 import unittest
 
-from counting import TooLong, within
+from helping import TooLong, within
 
 
 def walk(far):

@@ -1,0 +1,95 @@
+"""What several tests lean on: a line counter, fields to ask of, and whole points found by walking through windows."""
+
+import itertools
+import sys
+import unittest
+
+from stakefield.errors import StakeError
+from stakefield.fields import field, where
+
+FAR = 10 ** 30
+SIXTY = 123456789012345678901234567890123456789012345678901234567891
+STAY = (1, 0, 0, 1, 0, 0)
+MOVES = (
+    STAY, (1, 0, 0, 1, -7, 9), (0, 1, 1, 0, 0, 0), (-1, 0, 0, 1, 0, 0), (1, 0, 0, -1, 3, 0), (0, -1, 1, 0, 2, 2),
+    (-1, 0, 0, -1, 0, 0), (2, 3, 1, 1, 9, 8), (2, 1, 1, 1, 0, -4), (1, FAR, 0, 1, FAR, 1),
+)
+FAR_MOVES = (
+    (1, FAR, 0, 1, FAR, 1), (FAR + 1, FAR, 1, 1, -FAR, FAR), (FAR, FAR + 1, 1, 1, FAR, 3), (1, 0, -FAR, 1, 0, 7),
+    (FAR + 1, FAR, FAR + 2, FAR + 1, 5, -FAR * FAR), (0, 1, 1, 0, 10 ** 90, -10 ** 90),
+)
+SQUARE = [(0, 0), (4, 0), (4, 4), (0, 4)]
+FIELDS = (
+    [(0, 0)], [(-3, 5)], [(0, 0), (1, 0)], [(2, -1), (2, 8)], [(-1, 0), (5, 9)], [(0, 4), (6, 0)],
+    [(0, 0), (1, 0), (0, 1)], [(0, 0), (3, 0), (0, 6)], [(-2, -1), (5, -3), (1, 4)], SQUARE,
+    [(-1, 0), (0, -1), (1, 0), (0, 1)], [(0, 0), (2, -1), (5, 0), (6, 3), (4, 6), (1, 5)],
+)
+
+
+class TooLong(AssertionError):
+    pass
+
+
+def within(most, deed, *given):
+    """What deed(*given) answers; TooLong once more than `most` lines were run for it.
+
+    So a call that goes with distance fails where it would else hang.
+    """
+    run = 0
+
+    def count(frame, event, arg):
+        nonlocal run
+        if event == "line":
+            run += 1
+            if run > most:
+                raise TooLong(f"{deed.__name__} ran more than {most} lines")
+        return count
+
+    before = sys.gettrace()
+    sys.settrace(count)
+    try:
+        return deed(*given)
+    finally:
+        sys.settrace(before)
+
+
+class StakeCase(unittest.TestCase):
+    def assert_refused(self, own, deed, *given):
+        """Refused with the class `own` itself, which stands straight under StakeError."""
+        with self.assertRaises(ValueError) as caught:
+            deed(*given)
+        self.assertIs(type(caught.exception), own)
+        self.assertEqual((own.__bases__, StakeError.__bases__), ((StakeError,), (ValueError,)))
+
+
+def golden():
+    """Two neighbours of two hundred figures of the row in which dividing takes the most steps."""
+    low, high = 1, 1
+    while high < 10 ** 199:
+        low, high = high, low + high
+    return low, high
+
+
+def window(land):
+    """All whole points, in order, from the least to the greatest x and y of the field's corners."""
+    xs = [P[0] for P in land]
+    ys = [P[1] for P in land]
+    return list(itertools.product(range(min(xs), max(xs) + 1), range(min(ys), max(ys) + 1)))
+
+
+def walked(land, least=0):
+    """The whole points, in order, of which where (11) tells `least` or more."""
+    return [P for P in window(land) if where(land, P) >= least]
+
+
+def some_fields(many, reach, most=8):
+    """`many` fields, always the same ones, of up to `most` points up to `reach` from (0, 0) each way."""
+    state = 20 * reach + most
+    told = []
+    for k in range(many):
+        points = []
+        for i in range(k % most + 1):
+            state = state * 48271 % (2 ** 31 - 1)
+            points.append((state // 5 % (2 * reach + 1) - reach, state // 7919 % (2 * reach + 1) - reach))
+        told.append(field(points))
+    return told
