@@ -1,5 +1,6 @@
 """What several tests lean on: a line counter, fields to ask of, and whole points found by walking through windows."""
 
+import copy
 import itertools
 import sys
 import unittest
@@ -8,6 +9,7 @@ from stakefield.errors import StakeError
 from stakefield.fields import field, where
 
 FAR = 10 ** 30
+FORTY = 10 ** 39 + 3
 SIXTY = 123456789012345678901234567890123456789012345678901234567891
 STAY = (1, 0, 0, 1, 0, 0)
 MOVES = (
@@ -23,6 +25,18 @@ FIELDS = (
     [(0, 0)], [(-3, 5)], [(0, 0), (1, 0)], [(2, -1), (2, 8)], [(-1, 0), (5, 9)], [(0, 4), (6, 0)],
     [(0, 0), (1, 0), (0, 1)], [(0, 0), (3, 0), (0, 6)], [(-2, -1), (5, -3), (1, 4)], SQUARE,
     [(-1, 0), (0, -1), (1, 0), (0, 1)], [(0, 0), (2, -1), (5, 0), (6, 3), (4, 6), (1, 5)],
+)
+HUNDRED = (
+    [(0, 0), (99, 0)], [(-5, 40), (-5, 139)], [(0, 0), (9, 0), (9, 9), (0, 9)], [(0, 0), (49, 0), (49, 1), (0, 1)],
+    [(0, 0), (98, 0), (0, 1)], [(0, 0), (1, 0), (197, 195)],
+)
+ONE_MORE = (
+    [(0, 0), (100, 0)], [(-5, 40), (-5, 140)], [(0, 0), (9, 0), (10, 1), (9, 9), (0, 9)], [(0, 0), (50, 0), (49, 1), (0, 1)],
+    [(0, 0), (99, 0), (0, 1)], [(0, 0), (1, 0), (196, 197)],
+)
+VERY_GREAT = (
+    [(0, 0), (FAR, 0)], [(-FAR, -FAR), (FAR, FAR)], [(0, 0), (FAR, 0), (0, 1)], [(0, 0), (FAR, 0), (FAR, FAR), (0, FAR)],
+    [(0, 0), (1, 0), (FAR, FAR + 1)], [(-FAR, 0), (0, -1), (FAR, 0), (0, 1)], [(0, 0), (10 ** 199, 1), (1, 10 ** 199)],
 )
 
 
@@ -60,6 +74,17 @@ class StakeCase(unittest.TestCase):
             deed(*given)
         self.assertIs(type(caught.exception), own)
         self.assertEqual((own.__bases__, StakeError.__bases__), ((StakeError,), (ValueError,)))
+
+    def assert_new_list(self, deed, *given):
+        """[2]: the same asked again is the same, in a list of the asker's own; nothing handed in is changed."""
+        kept = copy.deepcopy(given)
+        told = deed(*given)
+        again = deed(*given)
+        self.assertIs(type(told), list)
+        self.assertEqual(told, again)
+        self.assertFalse(any(told is thing for thing in (again,) + given))
+        told.append("more")
+        self.assertEqual((deed(*given), given), (again, kept))
 
 
 def golden():

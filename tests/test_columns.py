@@ -3,14 +3,13 @@
 import itertools
 import unittest
 
-from helping import FAR, FAR_MOVES, FIELDS, MOVES, SQUARE, StakeCase, golden, some_fields, walked, within
+from helping import FAR, FAR_MOVES, FIELDS, FORTY, MOVES, SQUARE, StakeCase, golden, some_fields, walked, within
 from stakefield.columns import columns, share
 from stakefield.counts import count
 from stakefield.fields import field_moved
 from stakefield.moves import way_back
 
 SOME = list(FIELDS) + some_fields(32, 4)
-FORTY = 10 ** 39 + 3
 WIDE = [(-FORTY, 0), (0, -FORTY), (FORTY, 0), (0, FORTY)]
 
 

@@ -34,6 +34,11 @@ WORDS = set("""
 """.split())
 WALKED = {"zip", "enumerate", "reversed", "range", "items", "keys", "values"}
 WALKERS = {"list", "tuple", "dict", "sorted", "sum", "any", "all", "enumerate", "zip", "min", "max", "join"}
+KEYWORDS = {
+    "sorted": {"key", "reverse"}, "min": {"key", "default"}, "max": {"key", "default"}, "sum": {"start"}, "enumerate": {"start"},
+    "zip": {"strict"},
+}
+KEYS = {"len", "int", "str", "abs", "sum", "min", "max", "tuple"}
 TWO_UNDERSCORES = {"__init__", "__eq__", "__repr__", "__str__", "__len__", "__all__", "__version__"}
 
 
@@ -208,6 +213,41 @@ class LanguageTest(unittest.TestCase):
         for place, node in self.nodes():
             if isinstance(node, ast.Name) and hasattr(builtins, node.id):
                 self.assertIn(node.id, OWN_NAMES, place)
+
+    def test_keywords(self):
+        for place, node in self.nodes():
+            if isinstance(node, ast.Call) and (called(node) in METHODS or hasattr(builtins, called(node) or "")):
+                given = {keyword.arg for keyword in node.keywords}
+                self.assertLessEqual(given, KEYWORDS.get(called(node), set()), place)
+
+    def test_pythons_own_are_called_where_they_stand(self):
+        for path, tree in self.trees.items():
+            fine = []
+            for node in ast.walk(tree):
+                if isinstance(node, ast.Call):
+                    fine.append(node.func)
+                    fine += [own for own in ast.walk(node.args[1])] if called(node) == "isinstance" else []
+                    fine += [own.value for own in node.keywords if getattr(own.value, "id", None) in KEYS]
+                elif isinstance(node, ast.ClassDef):
+                    fine += node.bases
+                elif isinstance(node, ast.ExceptHandler):
+                    fine += [own for own in ast.walk(node.type)]
+            for node in ast.walk(tree):
+                if isinstance(node, ast.Name) and node.id in OWN_NAMES:
+                    self.assertIn(node, fine, f"{path.name}:{node.lineno} {node.id}")
+
+    def test_numbers_and_texts(self):
+        for place, node in self.nodes():
+            if isinstance(node, ast.BinOp) and isinstance(node.op, ast.Pow):
+                self.assertIn(getattr(node.right, "value", None), range(65), place)
+            if isinstance(node, ast.Constant) and isinstance(node.value, str):
+                self.assertNotIn("%", node.value, place)
+        for path, text in self.texts.items():
+            self.assertIsNone(re.search(r"\\[^nt\\\"']", text), path.name)
+
+    def test_lambdas_on_one_line(self):
+        rows = [(place, ast.dump(node.args)) for place, node in self.nodes() if isinstance(node, ast.Lambda)]
+        self.assertEqual(sorted(rows), sorted(set(rows)))
 
     def test_methods(self):
         own = {node.name for place, node in self.nodes() if isinstance(node, ast.FunctionDef)}

@@ -3,7 +3,8 @@
 import itertools
 import unittest
 
-from helping import FAR, FAR_MOVES, FIELDS, MOVES, SQUARE, StakeCase, golden, some_fields, walked, within
+from helping import FAR, FAR_MOVES, FIELDS, FORTY, HUNDRED, MOVES, ONE_MORE, VERY_GREAT, StakeCase, golden
+from helping import some_fields, walked, within
 from stakefield.counts import count
 from stakefield.errors import Flat, TooMany
 from stakefield.fields import double_area, field, field_moved, rim, turn, where
@@ -12,20 +13,7 @@ from stakefield.pieces import another, faces, pieces, stakes
 from stakefield.sums import fold
 
 NINE = [(x, y) for x in range(3) for y in range(3)]
-FORTY = 10 ** 39 + 3
 SOME = [land for land in list(FIELDS) + some_fields(60, 4) if count(land) <= 100]
-HUNDRED = (
-    [(0, 0), (99, 0)], [(-5, 40), (-5, 139)], [(0, 0), (9, 0), (9, 9), (0, 9)], [(0, 0), (49, 0), (49, 1), (0, 1)],
-    [(0, 0), (98, 0), (0, 1)], [(0, 0), (1, 0), (197, 195)],
-)
-ONE_MORE = (
-    [(0, 0), (100, 0)], [(-5, 40), (-5, 140)], [(0, 0), (9, 0), (10, 1), (9, 9), (0, 9)], [(0, 0), (50, 0), (49, 1), (0, 1)],
-    [(0, 0), (99, 0), (0, 1)], [(0, 0), (1, 0), (196, 197)],
-)
-VERY_GREAT = (
-    [(0, 0), (FAR, 0)], [(-FAR, -FAR), (FAR, FAR)], [(0, 0), (FAR, 0), (0, 1)], [(0, 0), (FAR, 0), (FAR, FAR), (0, FAR)],
-    [(0, 0), (1, 0), (FAR, FAR + 1)], [(-FAR, 0), (0, -1), (FAR, 0), (0, 1)], [(0, 0), (10 ** 199, 1), (1, 10 ** 199)],
-)
 
 
 def orders(points):
