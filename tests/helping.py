@@ -5,8 +5,10 @@ import itertools
 import sys
 import unittest
 
+from stakefield.desk import Desk
 from stakefield.errors import StakeError
 from stakefield.fields import field, where
+from stakefield.texts import show_points
 
 FAR = 10 ** 30
 FORTY = 10 ** 39 + 3
@@ -20,11 +22,28 @@ FAR_MOVES = (
     (1, FAR, 0, 1, FAR, 1), (FAR + 1, FAR, 1, 1, -FAR, FAR), (FAR, FAR + 1, 1, 1, FAR, 3), (1, 0, -FAR, 1, 0, 7),
     (FAR + 1, FAR, FAR + 2, FAR + 1, 5, -FAR * FAR), (0, 1, 1, 0, 10 ** 90, -10 ** 90),
 )
+TWENTY = 10 ** 19 + 7
+# Moves that leave (0, 0) where it is, with numbers of twenty figures and about.
+SLANTS = (
+    (1, TWENTY, 0, 1, 0, 0), (1, 0, -TWENTY, 1, 0, 0), (TWENTY, TWENTY + 1, 1, 1, 0, 0), (TWENTY + 1, TWENTY, 1, 1, 0, 0),
+    (0, -1, 1, TWENTY, 0, 0), (TWENTY + 1, TWENTY, TWENTY + 2, TWENTY + 1, 0, 0),
+)
 SQUARE = [(0, 0), (4, 0), (4, 4), (0, 4)]
+CORNER = [(0, 0), (1, 0), (0, 1)]
+SLOPE = [(0, 0), (3, 0), (0, 2)]
+HEXAGON = [(-1, -1), (0, -1), (1, 0), (1, 1), (0, 1), (-1, 0)]
 FIELDS = (
     [(0, 0)], [(-3, 5)], [(0, 0), (1, 0)], [(2, -1), (2, 8)], [(-1, 0), (5, 9)], [(0, 4), (6, 0)],
     [(0, 0), (1, 0), (0, 1)], [(0, 0), (3, 0), (0, 6)], [(-2, -1), (5, -3), (1, 4)], SQUARE,
     [(-1, 0), (0, -1), (1, 0), (0, 1)], [(0, 0), (2, -1), (5, 0), (6, 3), (4, 6), (1, 5)],
+)
+# One field in which (0, 0) alone lies for each of the sixteen forms that there are of such.
+HEARTS = (
+    [(-1, -1), (1, 0), (0, 1)], [(-1, -1), (1, -1), (0, 1)], [(-2, -1), (0, -1), (1, 2)], [(-2, -1), (2, -1), (0, 1)],
+    [(-2, -1), (1, -1), (1, 2)], [(-1, -1), (0, -1), (1, 0), (0, 1)], [(-1, -1), (0, -1), (1, 1), (0, 1)],
+    [(-1, -1), (0, -1), (1, 0), (-1, 1)], [(-1, -1), (0, -1), (1, 1), (-1, 1)], [(-2, -1), (-1, -1), (1, 0), (1, 2)],
+    [(-2, -1), (0, -1), (1, 0), (1, 2)], [(-1, -1), (1, -1), (1, 1), (-1, 1)], [(-1, -1), (0, -1), (1, 0), (0, 1), (-1, 0)],
+    [(-1, -1), (0, -1), (1, 0), (0, 1), (-1, 1)], [(-1, -1), (0, -1), (1, 0), (1, 1), (-1, 1)], HEXAGON,
 )
 HUNDRED = (
     [(0, 0), (99, 0)], [(-5, 40), (-5, 139)], [(0, 0), (9, 0), (9, 9), (0, 9)], [(0, 0), (49, 0), (49, 1), (0, 1)],
@@ -107,6 +126,11 @@ def walked(land, least=0):
     return [P for P in window(land) if where(land, P) >= least]
 
 
+def bowl(many):
+    """A field of `many` corners, from three on."""
+    return [(x, x * x) for x in range(many)]
+
+
 def some_fields(many, reach, most=8):
     """`many` fields, always the same ones, of up to `most` points up to `reach` from (0, 0) each way."""
     state = 20 * reach + most
@@ -118,3 +142,11 @@ def some_fields(many, reach, most=8):
             points.append((state // 5 % (2 * reach + 1) - reach, state // 7919 % (2 * reach + 1) - reach))
         told.append(field(points))
     return told
+
+
+def desk_with(*fields):
+    """A desk at which the fields stand by the names a, b, c and so on."""
+    desk = Desk()
+    for name, land in zip("abcde", fields):
+        desk.say(f"field {name} {show_points(land)}")
+    return desk

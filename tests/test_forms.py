@@ -5,8 +5,8 @@ import math
 import unittest
 from fractions import Fraction
 
-from helping import FAR, FAR_MOVES, FIELDS, FORTY, MOVES, SIXTY, SQUARE, STAY, StakeCase, golden
-from helping import some_fields, walked, within
+from helping import CORNER, FAR, FAR_MOVES, FIELDS, FORTY, HEXAGON, MOVES, SIXTY, SLOPE, SQUARE, STAY, StakeCase
+from helping import golden, some_fields, walked, within
 from stakefield.counts import count, inner_count
 from stakefield.errors import Flat
 from stakefield.fields import double_area, field, field_moved, is_field, rim
@@ -17,9 +17,6 @@ from stakefield.pieces import stakes
 SOME = list(FIELDS) + some_fields(40, 4)
 WIDE = [land for land in SOME if len(land) > 2]
 FLAT = [land for land in SOME if len(land) < 3] + [[(FAR, -SIXTY)], [(-FAR, 0), (FAR, SIXTY)]]
-CORNER = [(0, 0), (1, 0), (0, 1)]
-SLOPE = [(0, 0), (3, 0), (0, 2)]
-HEXAGON = [(-1, -1), (0, -1), (1, 0), (1, 1), (0, 1), (-1, 0)]
 # Fields of the same double area and rim (and so of the same counts) between which no move leads.
 UNLIKE = (
     ([(0, 0), (1, 0), (2, 7)], [(0, 0), (1, 0), (3, 7)]), ([(0, 0), (2, 0), (0, 2)], [(0, 0), (4, 0), (0, 1)]),

@@ -39,6 +39,9 @@ KEYWORDS = {
     "zip": {"strict"},
 }
 KEYS = {"len", "int", "str", "abs", "sum", "min", "max", "tuple"}
+VALUES = {"count", "index", "title", "find", "get", "join", "lower", "upper", "split", "strip", "copy", "add"}
+CHANGES = {"append", "clear", "extend", "insert", "pop", "remove", "reverse", "setdefault", "update"}
+READERS = {"len", "list", "tuple", "dict", "sorted", "sum", "min", "max", "any", "all", "enumerate", "zip", "reversed"}
 TWO_UNDERSCORES = {"__init__", "__eq__", "__repr__", "__str__", "__len__", "__all__", "__version__"}
 
 
@@ -62,6 +65,11 @@ def called(node):
     if not isinstance(node, ast.Call):
         return None
     return node.func.id if isinstance(node.func, ast.Name) else getattr(node.func, "attr", None)
+
+
+def own_of_python():
+    """The names that Python's own texts, numbers, lists, dicts, sets and bytes have as a method or a value."""
+    return {name for kind in (str, int, bool, list, tuple, dict, set, frozenset, bytes, bytearray) for name in dir(kind)}
 
 
 def drawn_from(tree):
@@ -194,8 +202,9 @@ class LanguageTest(unittest.TestCase):
         for path, tree in self.trees.items():
             for name, row in bound_names(tree):
                 place = f"{path.name}:{row} {name}"
-                self.assertTrue(re.match(r"[A-Za-z]\w*$", name) or name in TWO_UNDERSCORES, place)
-                self.assertFalse(hasattr(builtins, name), place)
+                if name not in TWO_UNDERSCORES:
+                    self.assertRegex(name, r"^[A-Za-z]\w*$", place)
+                    self.assertFalse(hasattr(builtins, name), place)
 
     def test_no_local_is_called_like_a_class_or_an_import(self):
         for path, tree in self.trees.items():
@@ -248,6 +257,68 @@ class LanguageTest(unittest.TestCase):
     def test_lambdas_on_one_line(self):
         rows = [(place, ast.dump(node.args)) for place, node in self.nodes() if isinstance(node, ast.Lambda)]
         self.assertEqual(sorted(rows), sorted(set(rows)))
+
+    def test_classes(self):
+        methods, values = [], set()
+        for path, tree in self.trees.items():
+            for node in ast.walk(tree):
+                if isinstance(node, ast.ClassDef):
+                    place = f"{path.name}:{node.lineno} {node.name}"
+                    self.assertIn(node, tree.body, place)
+                    self.assertEqual((len(node.bases) < 2, node.keywords), (True, []), place)
+                    own = [part.name for part in node.body if isinstance(part, ast.FunctionDef)]
+                    self.assertEqual(len(own), len(set(own)), place)
+                    self.assertTrue(own or isinstance(node.body[0], ast.Pass), place)
+                    methods += [name for name in own if not name.startswith("__")]
+                    values |= {part.attr for part in ast.walk(node) if isinstance(getattr(part, "ctx", None), ast.Store)
+                               and isinstance(part, ast.Attribute)}
+        self.assertEqual(set(methods) & values, set())
+        self.assertEqual(set(methods) & (own_of_python() - METHODS - {"add", "discard"}), set())
+        self.assertEqual(values & (own_of_python() - VALUES), set())
+
+    def test_values_are_given_through_a_local_name(self):
+        for place, node in self.nodes():
+            if isinstance(node, ast.Attribute) and isinstance(node.ctx, ast.Store):
+                self.assertIsInstance(node.value, ast.Name, place)
+                self.assertTrue(node.value.id.islower(), place)
+
+    def test_the_methods_with_two_underscores(self):
+        for place, node in self.nodes():
+            if isinstance(node, ast.FunctionDef) and node.name == "__init__":
+                self.assertFalse(any(isinstance(own, ast.Return) for own in ast.walk(node)), place)
+            elif isinstance(node, ast.FunctionDef):
+                self.assertFalse(node.name.startswith("__"), place)
+
+    def test_errors_are_made_on_the_spot_and_taken_by_name(self):
+        refusals = {node.name for node in self.trees[PACKAGE / "errors.py"].body if isinstance(node, ast.ClassDef)}
+        for place, node in self.nodes():
+            if isinstance(node, ast.Raise):
+                self.assertIn(called(node.exc), refusals, place)
+            self.assertNotIsInstance(node, ast.Try, place)
+
+    def test_lists_of_a_file_s_top_are_only_read(self):
+        for path, tree in self.trees.items():
+            kept = [node.targets[0].id for node in tree.body if isinstance(node, ast.Assign)
+                    and isinstance(node.value, (ast.List, ast.Dict))]
+            fine = []
+            for node in ast.walk(tree):
+                if isinstance(node, ast.Subscript) and isinstance(node.ctx, ast.Load):
+                    fine.append(node.value)
+                elif isinstance(node, (ast.For, ast.comprehension)):
+                    fine.append(node.iter)
+                elif isinstance(node, ast.Compare):
+                    fine += node.comparators
+                elif called(node) in READERS:
+                    fine += node.args
+                elif called(node) in METHODS - CHANGES and isinstance(node.func, ast.Attribute):
+                    fine.append(node.func.value)
+            for node in ast.walk(tree):
+                if isinstance(node, ast.Name) and node.id in kept and isinstance(node.ctx, ast.Load):
+                    self.assertIn(node, fine, f"{path.name}:{node.lineno} {node.id}")
+            for node in tree.body:
+                if isinstance(node, ast.Assign) and isinstance(node.value, (ast.List, ast.Dict)):
+                    within = list(ast.walk(node.value))[1:]
+                    self.assertFalse(any(isinstance(own, (ast.List, ast.Dict)) for own in within), f"{path.name}:{node.lineno}")
 
     def test_methods(self):
         own = {node.name for place, node in self.nodes() if isinstance(node, ast.FunctionDef)}
