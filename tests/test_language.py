@@ -42,6 +42,7 @@ KEYS = {"len", "int", "str", "abs", "sum", "min", "max", "tuple"}
 VALUES = {"count", "index", "title", "find", "get", "join", "lower", "upper", "split", "strip", "copy", "add"}
 CHANGES = {"append", "clear", "extend", "insert", "pop", "remove", "reverse", "setdefault", "update"}
 READERS = {"len", "list", "tuple", "dict", "sorted", "sum", "min", "max", "any", "all", "enumerate", "zip", "reversed"}
+TAKEN = {"KeyError", "ZeroDivisionError", "StopIteration", "ValueError", "LookupError", "IndexError"}
 TWO_UNDERSCORES = {"__init__", "__eq__", "__repr__", "__str__", "__len__", "__all__", "__version__"}
 
 
@@ -294,7 +295,9 @@ class LanguageTest(unittest.TestCase):
         for place, node in self.nodes():
             if isinstance(node, ast.Raise):
                 self.assertIn(called(node.exc), refusals, place)
-            self.assertNotIsInstance(node, ast.Try, place)
+            elif isinstance(node, ast.ExceptHandler):
+                self.assertIsNotNone(node.type, place)
+                self.assertLessEqual({own.id for own in ast.walk(node.type) if isinstance(own, ast.Name)}, refusals | TAKEN, place)
 
     def test_lists_of_a_file_s_top_are_only_read(self):
         for path, tree in self.trees.items():
